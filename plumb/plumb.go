@@ -1,0 +1,46 @@
+// Package plumb: which side a point lies on, never wrong, and what can be built on that: see DOC.md.
+package plumb
+
+import (
+	"plumb/api"
+	"plumb/side"
+)
+
+// Side tells on which side of a line a point lies (P4).
+func Side(a, b, c api.Point) (int, api.Errno) {
+	if e := checkPoints(a, b, c); e != api.OK {
+		return 0, e
+	}
+	return side.Of(a, b, c), api.OK
+}
+
+// Circle tells whether a point lies within a circle (P4).
+func Circle(a, b, c, d api.Point) (int, api.Errno) {
+	if e := checkPoints(a, b, c, d); e != api.OK {
+		return 0, e
+	}
+	return side.OfCircle(a, b, c, d), api.OK
+}
+
+// Meet tells what two segments have in common (P5).
+func Meet(a, b, c, d api.Point) (int, api.Errno) {
+	return 0, checkPoints(a, b, c, d)
+}
+
+// Within tells whether a point lies within a polygon (P6).
+func Within(polygon []api.Point, p api.Point) (int, api.Errno) {
+	if e := checkList(polygon); e != api.OK {
+		return 0, e
+	}
+	return 0, checkPoints(p)
+}
+
+// Hull tells the corners of the smallest convex polygon (P7).
+func Hull(points ...api.Point) ([]int, api.Errno) {
+	return nil, checkList(points)
+}
+
+// Triangulate tells triangles whose circles are empty (P8).
+func Triangulate(points ...api.Point) ([]api.Triangle, api.Errno) {
+	return nil, checkList(points)
+}
