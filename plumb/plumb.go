@@ -3,6 +3,9 @@ package plumb
 
 import (
 	"plumb/api"
+	"plumb/hull"
+	"plumb/inside"
+	"plumb/segment"
 	"plumb/side"
 )
 
@@ -24,7 +27,10 @@ func Circle(a, b, c, d api.Point) (int, api.Errno) {
 
 // Meet tells what two segments have in common (P5).
 func Meet(a, b, c, d api.Point) (int, api.Errno) {
-	return 0, checkPoints(a, b, c, d)
+	if e := checkPoints(a, b, c, d); e != api.OK {
+		return 0, e
+	}
+	return segment.Meet(segment.Segment{A: a, B: b}, segment.Segment{A: c, B: d}), api.OK
 }
 
 // Within tells whether a point lies within a polygon (P6).
@@ -32,12 +38,18 @@ func Within(polygon []api.Point, p api.Point) (int, api.Errno) {
 	if e := checkList(polygon); e != api.OK {
 		return 0, e
 	}
-	return 0, checkPoints(p)
+	if e := checkPoints(p); e != api.OK {
+		return 0, e
+	}
+	return inside.Of(polygon, p), api.OK
 }
 
 // Hull tells the corners of the smallest convex polygon (P7).
 func Hull(points ...api.Point) ([]int, api.Errno) {
-	return nil, checkList(points)
+	if e := checkList(points); e != api.OK {
+		return nil, e
+	}
+	return hull.Of(points), api.OK
 }
 
 // Triangulate tells triangles whose circles are empty (P8).

@@ -252,10 +252,10 @@ func TestWrongCoordinate(t *testing.T) {
 			if what, e := Within(p[:3], p[3]); what != 0 || e != api.ErrCoord {
 				t.Errorf("Within(%v) = %d, %d", p, what, e)
 			}
-			if list, e := Hull(p...); len(list) != 0 || e != api.ErrCoord {
+			if list, e := Hull(p...); list != nil || e != api.ErrCoord {
 				t.Errorf("Hull(%v) = %v, %d", p, list, e)
 			}
-			if list, e := Triangulate(p...); len(list) != 0 || e != api.ErrCoord {
+			if list, e := Triangulate(p...); list != nil || e != api.ErrCoord {
 				t.Errorf("Triangulate(%v) = %v, %d", p, list, e)
 			}
 		}
@@ -314,10 +314,10 @@ func checkLists(t *testing.T, list []api.Point, p api.Point, want api.Errno) {
 	if what, e := Within(list, p); e != want || e != api.OK && what != 0 {
 		t.Errorf("Within of %d points = %d, %d, want error %d", len(list), what, e, want)
 	}
-	if out, e := Hull(list...); e != want || e != api.OK && len(out) != 0 {
+	if out, e := Hull(list...); e != want || e != api.OK && out != nil {
 		t.Errorf("Hull of %d points = %v, %d, want error %d", len(list), out, e, want)
 	}
-	if out, e := Triangulate(list...); e != want || e != api.OK && len(out) != 0 {
+	if out, e := Triangulate(list...); e != want || e != api.OK && out != nil {
 		t.Errorf("Triangulate of %d points = %v, %d, want error %d", len(list), out, e, want)
 	}
 	if !slices.Equal(before, list) {
@@ -344,5 +344,16 @@ func TestWrongPointBesideManyPoints(t *testing.T) {
 	}
 	if what, e := Within(nil, point(m+1, 0)); what != 0 || e != api.ErrCoord {
 		t.Errorf("Within = %d, %d", what, e)
+	}
+}
+
+// P3: one wrong point at each place of a full list.
+func TestWrongPointInFullList(t *testing.T) {
+	for i := range api.MaxPoints {
+		for _, wrong := range []api.Point{point(m+1, 0), point(0, -m-1)} {
+			list := somePoints(api.MaxPoints, 7)
+			list[i] = wrong
+			checkLists(t, list, point(1, 1), api.ErrCoord)
+		}
 	}
 }
