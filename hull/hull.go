@@ -14,24 +14,13 @@ import (
 // the one that order puts first. The hull is found in parts: what is a corner of
 // the whole is a corner of its part too.
 func Of(list []api.Point) []int {
-	first := firstNumbers(list)
+	first := order.FirstNumbers(list)
 	whole := around(cornersOfParts(list))
 	numbers := make([]int, len(whole))
 	for i, p := range whole {
 		numbers[i] = first[p]
 	}
 	return numbers
-}
-
-// firstNumbers lets the first of points that are the same stand for all.
-func firstNumbers(list []api.Point) map[api.Point]int {
-	first := make(map[api.Point]int, len(list))
-	for i, p := range list {
-		if _, known := first[p]; !known {
-			first[p] = i
-		}
-	}
-	return first
 }
 
 // cornersOfParts lets all parts be worked on before it waits for the first, and
@@ -74,9 +63,7 @@ func sendCorners(part []api.Point, corners chan<- api.Point) {
 
 // around goes round the points counterclockwise: there below them, back above.
 func around(list []api.Point) []api.Point {
-	sorted := slices.Clone(list)
-	slices.SortFunc(sorted, order.Compare)
-	sorted = slices.Compact(sorted)
+	sorted := order.Distinct(list)
 	if len(sorted) < 2 {
 		return sorted
 	}

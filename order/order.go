@@ -4,6 +4,7 @@ package order
 
 import (
 	"cmp"
+	"slices"
 
 	"plumb/api"
 )
@@ -20,4 +21,24 @@ func Sorted(a, b api.Point) (first, last api.Point) {
 		return b, a
 	}
 	return a, b
+}
+
+// Distinct hands back, as a list of its own, the points in their order, each of
+// them once.
+func Distinct(list []api.Point) []api.Point {
+	sorted := slices.Clone(list)
+	slices.SortFunc(sorted, Compare)
+	return slices.Compact(sorted)
+}
+
+// FirstNumbers tells where in the list each point stands; the first of points
+// that are the same stands for all.
+func FirstNumbers(list []api.Point) map[api.Point]int {
+	first := make(map[api.Point]int, len(list))
+	for i, p := range list {
+		if _, known := first[p]; !known {
+			first[p] = i
+		}
+	}
+	return first
 }

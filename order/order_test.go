@@ -2,6 +2,8 @@ package order
 
 import (
 	"cmp"
+	"maps"
+	"slices"
 	"testing"
 
 	"plumb/api"
@@ -35,5 +37,33 @@ func TestSorted(t *testing.T) {
 				t.Errorf("Sorted(%v, %v) = %v, %v", b, a, first, last)
 			}
 		}
+	}
+}
+
+func TestDistinct(t *testing.T) {
+	mixed := slices.Concat(list()[4:], list(), list()[:6])
+	slices.Reverse(mixed)
+	before := slices.Clone(mixed)
+	got := Distinct(mixed)
+	if !slices.Equal(got, list()) {
+		t.Errorf("Distinct(%v) = %v", mixed, got)
+	}
+	clear(got[:cap(got)])
+	if !slices.Equal(mixed, before) {
+		t.Errorf("Distinct wrote into %v, or handed it out", before)
+	}
+	if got := Distinct(nil); len(got) != 0 {
+		t.Errorf("Distinct of no points = %v", got)
+	}
+}
+
+func TestFirstNumbers(t *testing.T) {
+	a, b, c := list()[0], list()[1], list()[2]
+	got := FirstNumbers([]api.Point{b, a, b, b, c, a})
+	if want := map[api.Point]int{b: 0, a: 1, c: 4}; !maps.Equal(got, want) {
+		t.Errorf("FirstNumbers = %v, want %v", got, want)
+	}
+	if got := FirstNumbers(nil); len(got) != 0 {
+		t.Errorf("FirstNumbers of no points = %v", got)
 	}
 }

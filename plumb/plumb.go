@@ -5,6 +5,7 @@ import (
 	"plumb/api"
 	"plumb/hull"
 	"plumb/inside"
+	"plumb/mesh"
 	"plumb/segment"
 	"plumb/side"
 )
@@ -54,5 +55,8 @@ func Hull(points ...api.Point) ([]int, api.Errno) {
 
 // Triangulate tells triangles whose circles are empty (P8).
 func Triangulate(points ...api.Point) ([]api.Triangle, api.Errno) {
-	return nil, checkList(points)
+	if e := checkList(points); e != api.OK {
+		return nil, e
+	}
+	return mesh.Of(points), api.OK
 }
